@@ -1,0 +1,71 @@
+package arbiter_test
+
+import (
+	"sync"
+	"testing"
+
+	"arbiter/api"
+	"arbiter/arbiter"
+)
+
+// P2: what one session declares, another does not know.
+func TestP2SessionsAreApart(t *testing.T) {
+	one, other := arbiter.New(), arbiter.New()
+	declare(t, one, "x", 0, api.OK)
+	refuse(t, other, "(= x x)", 3, api.ErrName)
+	declare(t, other, "x", 1, api.OK)
+	tidy(t, one, "(= x x)", "(= x x)")
+	refuse(t, other, "(= x x)", 3, api.ErrArity)
+	for n := range 19 {
+		declare(t, one, letters(n), 0, api.OK)
+	}
+	declare(t, one, "z", 0, api.ErrFull)
+	declare(t, other, "z", 0, api.OK)
+	refuse(t, arbiter.New(), "(= x x)", 3, api.ErrName)
+}
+
+// P2: the same calls have the same answers, also beside other sessions' calls.
+func TestP2SessionsAtTheSameTime(t *testing.T) {
+	var all sync.WaitGroup
+	for n := range 8 {
+		all.Go(func() {
+			for range 200 {
+				s := arbiter.New()
+				declare(t, s, "a", n%4, api.OK)
+				declare(t, s, letters(n), 0, api.OK)
+				refuse(t, s, "(= x 1)", 3, api.ErrName)
+				tidy(t, s, "(<  "+letters(n)+" 1)", "(< "+letters(n)+" 1)")
+			}
+		})
+	}
+	all.Wait()
+}
+
+// P2: an answer hangs on no earlier Tidy.
+func TestP2TidyKeepsNothing(t *testing.T) {
+	s := session(t)
+	for range 3 {
+		tidy(t, s, "(and(= x y))", "(and (= x y))")
+		refuse(t, s, "(and (= x", 9, api.ErrForm)
+		refuse(t, s, "((((", 1, api.ErrForm)
+	}
+}
+
+// P3: no names, no formulas, no frame but the first one.
+func TestP3NewSession(t *testing.T) {
+	if arbiter.New() == nil || arbiter.New() == arbiter.New() {
+		t.Fatal("New gave no session of its own")
+	}
+	s := arbiter.New()
+	for c := 'a'; c <= 'z'; c++ {
+		refuse(t, s, "(= "+string(c)+" 0)", 3, api.ErrName)
+		refuse(t, s, "(= ("+string(c)+" 0) 0)", 4, api.ErrName)
+	}
+	if formulas, frames := s.Count(); formulas != 0 || frames != 0 {
+		t.Errorf("Count of a new session = %d, %d", formulas, frames)
+	}
+	if errno := s.Pop(); errno != api.ErrNone {
+		t.Errorf("Pop of a new session = %d", errno)
+	}
+	tidy(t, s, "true", "true")
+}

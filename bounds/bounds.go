@@ -1,0 +1,23 @@
+// Package bounds compares whole numbers of all kinds in one way.
+package bounds
+
+// Integer is every kind of whole number, bytes too.
+type Integer interface {
+	~int | ~int8 | ~int16 | ~int32 | ~int64 |
+		~uint | ~uint8 | ~uint16 | ~uint32 | ~uint64
+}
+
+// Within tells whether n is one of low to high, both ends included.
+func Within[N Integer](n, low, high N) bool {
+	return low <= n && n <= high
+}
+
+// AllWithin tells whether each byte of text is one of low to high.
+func AllWithin(text string, low, high byte) bool {
+	for i := range len(text) {
+		if !Within(text[i], low, high) {
+			return false
+		}
+	}
+	return true
+}

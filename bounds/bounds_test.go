@@ -1,0 +1,37 @@
+package bounds
+
+import (
+	"math"
+	"testing"
+)
+
+func TestWithin(t *testing.T) {
+	for _, c := range []struct {
+		n, low, high int
+		want         bool
+	}{
+		{0, 0, 3, true}, {3, 0, 3, true}, {-1, 0, 3, false}, {4, 0, 3, false}, {2, 2, 2, true},
+		{2, 3, 1, false}, {math.MinInt, 0, 3, false}, {math.MaxInt, 0, 3, false}, {math.MinInt, math.MinInt, math.MaxInt, true},
+	} {
+		if got := Within(c.n, c.low, c.high); got != c.want {
+			t.Errorf("Within(%d, %d, %d) = %t", c.n, c.low, c.high, got)
+		}
+	}
+}
+
+func TestWithinOfOtherKinds(t *testing.T) {
+	if !Within(byte(255), 200, 255) || Within(byte(199), 200, 255) {
+		t.Error("bytes")
+	}
+	if !Within(int8(-128), -128, 127) || Within(uint64(math.MaxUint64), 0, math.MaxInt64) {
+		t.Error("small and great kinds")
+	}
+}
+
+func TestAllWithin(t *testing.T) {
+	for text, want := range map[string]bool{"": true, "a": true, "az": true, "a`": false, "{a": false, "aBc": false, "é": false, "\xff": false} {
+		if got := AllWithin(text, 'a', 'z'); got != want {
+			t.Errorf("AllWithin(%q) = %t", text, got)
+		}
+	}
+}
