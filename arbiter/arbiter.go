@@ -2,14 +2,28 @@
 package arbiter
 
 import (
+	"slices"
+
 	"arbiter/api"
 	"arbiter/names"
+	"arbiter/pool"
 	"arbiter/syntax"
 )
 
 // Session is names, formulas, frames.
 type Session struct {
-	names names.Table
+	names    names.Table
+	pool     pool.Pool // the terms and the atoms of the formulas
+	formulas []pool.Formula
+	frames   []frame // those above the first one
+}
+
+// frame is how much there was when it began: all that has come since goes with
+// it.
+type frame struct {
+	names    int
+	pool     pool.Size
+	formulas int
 }
 
 // New makes a session (P3).
@@ -30,17 +44,49 @@ func (s *Session) Tidy(formula string) (string, int, api.Errno) {
 }
 
 // Assert takes a formula (P6).
-func (s *Session) Assert(formula string) (int, api.Errno) { return 0, api.OK }
+func (s *Session) Assert(formula string) (int, api.Errno) {
+	read, place, errno := syntax.Formula(formula, &s.names)
+	if errno != api.OK {
+		return place, errno
+	}
+	if len(s.formulas) >= api.MaxFormulas {
+		return 0, api.ErrFull
+	}
+	taken, errno := s.pool.Take(read)
+	if errno != api.OK {
+		return 0, errno
+	}
+	s.formulas = append(s.formulas, taken)
+	return 0, api.OK
+}
 
 // Push begins a frame (P7).
-func (s *Session) Push() api.Errno { return api.OK }
+func (s *Session) Push() api.Errno {
+	if len(s.frames) >= api.MaxFrames {
+		return api.ErrFull
+	}
+	s.frames = append(s.frames, frame{s.names.Count(), s.pool.Size(), len(s.formulas)})
+	return api.OK
+}
 
-// Pop leaves the last frame (P7). As long as Push makes none, there is only
-// the first one, which cannot be left (P3).
-func (s *Session) Pop() api.Errno { return api.ErrNone }
+// Pop leaves the last frame (P7).
+func (s *Session) Pop() api.Errno {
+	if len(s.frames) == 0 {
+		return api.ErrNone
+	}
+	last := len(s.frames) - 1
+	before := s.frames[last]
+	s.frames = s.frames[:last]
+	s.names.Cut(before.names)
+	s.pool.Cut(before.pool)
+	s.formulas = slices.Delete(s.formulas, before.formulas, len(s.formulas))
+	return api.OK
+}
 
 // Count is how many formulas and frames there are (P7).
-func (s *Session) Count() (int, int) { return 0, 0 }
+func (s *Session) Count() (int, int) {
+	return len(s.formulas), len(s.frames)
+}
 
 // Check tells whether all formulas can be true together (P8).
 func (s *Session) Check() bool { return false }

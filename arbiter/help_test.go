@@ -8,7 +8,7 @@ import (
 )
 
 // arities is what the sessions of these tests have declared.
-var arities = map[string]int{"x": 0, "y": 0, "abcdefgh": 0, "f": 1, "g": 2, "h": 3}
+var arities = known{"x": 0, "y": 0, "abcdefgh": 0, "f": 1, "g": 2, "h": 3}
 
 func session(t testing.TB) *arbiter.Session {
 	t.Helper()
@@ -37,6 +37,42 @@ func refuse(t testing.TB, s *arbiter.Session, text string, place int, errno api.
 	t.Helper()
 	if got, p, e := s.Tidy(text); got != "" || p != place || e != errno {
 		t.Errorf("Tidy(%q) = %q, place %d, error %d, want place %d, error %d", text, got, p, e, place, errno)
+	}
+}
+
+// lay asserts formulas that can be laid down.
+func lay(t testing.TB, s *arbiter.Session, texts ...string) {
+	t.Helper()
+	for _, text := range texts {
+		assert(t, s, text, 0, api.OK)
+	}
+}
+
+func assert(t testing.TB, s *arbiter.Session, text string, place int, errno api.Errno) {
+	t.Helper()
+	if p, e := s.Assert(text); p != place || e != errno {
+		t.Errorf("Assert(%q) = %d, %d, want %d, %d", text, p, e, place, errno)
+	}
+}
+
+func push(t testing.TB, s *arbiter.Session, want api.Errno) {
+	t.Helper()
+	if got := s.Push(); got != want {
+		t.Errorf("Push() = %d, want %d", got, want)
+	}
+}
+
+func pop(t testing.TB, s *arbiter.Session, want api.Errno) {
+	t.Helper()
+	if got := s.Pop(); got != want {
+		t.Errorf("Pop() = %d, want %d", got, want)
+	}
+}
+
+func count(t testing.TB, s *arbiter.Session, formulas, frames int) {
+	t.Helper()
+	if a, b := s.Count(); a != formulas || b != frames {
+		t.Errorf("Count() = %d, %d, want %d, %d", a, b, formulas, frames)
 	}
 }
 

@@ -39,8 +39,11 @@ var (
 	}
 )
 
-// oracle answers as Tidy should in a session that has the names of arities.
-func oracle(text string) (string, int, api.Errno) {
+// known is names and their arities.
+type known map[string]int
+
+// read answers as Tidy should in a session that has these names.
+func (k known) read(text string) (string, int, api.Errno) {
 	if len(text) > 600 {
 		return "", 0, api.ErrLong
 	}
@@ -53,7 +56,7 @@ func oracle(text string) (string, int, api.Errno) {
 			return "", span[0], api.ErrForm
 		}
 		top := stack[len(stack)-1]
-		more, errno := step(top, tok, depth)
+		more, errno := k.step(top, tok, depth)
 		if errno != api.OK {
 			return "", span[0], errno
 		}
@@ -76,7 +79,7 @@ func oracle(text string) (string, int, api.Errno) {
 }
 
 // step gives what is wanted instead of top, once tok has been read.
-func step(top want, tok string, depth int) ([]want, api.Errno) {
+func (k known) step(top want, tok string, depth int) ([]want, api.Errno) {
 	switch top {
 	case closing:
 		return nil, unless(tok == ")", api.ErrForm)
@@ -86,7 +89,7 @@ func step(top want, tok string, depth int) ([]want, api.Errno) {
 		if tok == ")" {
 			return nil, api.OK
 		}
-		more, errno := step(formula, tok, depth)
+		more, errno := k.step(formula, tok, depth)
 		return append(more, formulas), errno
 	case formula:
 		if tok == "(" {
@@ -97,7 +100,7 @@ func step(top want, tok string, depth int) ([]want, api.Errno) {
 		more, ok := behind[tok]
 		return more, unless(ok, api.ErrForm)
 	case function:
-		return stepFunction(tok)
+		return k.stepFunction(tok)
 	case bound:
 		return nil, stepNumber(tok)
 	case argument:
@@ -105,28 +108,28 @@ func step(top want, tok string, depth int) ([]want, api.Errno) {
 			return nil, api.ErrArity
 		}
 	}
-	return stepTerm(tok, depth)
+	return k.stepTerm(tok, depth)
 }
 
-func stepTerm(tok string, depth int) ([]want, api.Errno) {
+func (k known) stepTerm(tok string, depth int) ([]want, api.Errno) {
 	if tok == "(" {
 		return []want{function}, unless(depth < 30, api.ErrDeep)
 	}
 	if !isName(tok) {
 		return nil, stepNumber(tok)
 	}
-	arity, ok := arities[tok]
+	arity, ok := k[tok]
 	if !ok {
 		return nil, api.ErrName
 	}
 	return nil, unless(arity == 0, api.ErrArity)
 }
 
-func stepFunction(tok string) ([]want, api.Errno) {
+func (k known) stepFunction(tok string) ([]want, api.Errno) {
 	if !isName(tok) {
 		return nil, api.ErrForm
 	}
-	arity, ok := arities[tok]
+	arity, ok := k[tok]
 	if !ok {
 		return nil, api.ErrName
 	}

@@ -16,7 +16,7 @@ var alphabet = []string{"(", ")", "true", "not", "and", "=>", "=", "le", "x", "f
 func agree(t *testing.T, s *arbiter.Session, text string) (int, api.Errno) {
 	t.Helper()
 	got, place, errno := s.Tidy(text)
-	want, wantPlace, wantErrno := oracle(text)
+	want, wantPlace, wantErrno := arities.read(text)
 	if got != want || place != wantPlace || errno != wantErrno {
 		t.Fatalf("Tidy(%q) = %q, %d, %d, want %q, %d, %d", text, got, place, errno, want, wantPlace, wantErrno)
 	}
@@ -64,18 +64,24 @@ func TestP1ChangedTexts(t *testing.T) {
 		if r.Intn(3) == 0 {
 			text = strings.Repeat("(not ", r.Intn(31)) + text
 		}
-		switch at := r.Intn(len(text)); r.Intn(5) {
-		case 0:
-			text = text[:at]
-		case 1:
-			text = text[:at] + " " + alphabet[r.Intn(len(alphabet))] + " " + text[at:]
-		case 2:
-			text = text[:at] + string([]byte{byte(r.Intn(256))}) + text[at+1:]
-		case 3:
-			text = text[:at] + text[at+1:]
-		}
-		agree(t, s, text)
+		agree(t, s, changed(r, text))
 	}
+}
+
+// changed cuts a text, or has another token or byte in it, or one fewer, or
+// leaves it.
+func changed(r *rand.Rand, text string) string {
+	switch at := r.Intn(len(text)); r.Intn(5) {
+	case 0:
+		return text[:at]
+	case 1:
+		return text[:at] + " " + alphabet[r.Intn(len(alphabet))] + " " + text[at:]
+	case 2:
+		return text[:at] + string([]byte{byte(r.Intn(256))}) + text[at+1:]
+	case 3:
+		return text[:at] + text[at+1:]
+	}
+	return text
 }
 
 func anyFormula(r *rand.Rand, depth int) string {

@@ -1,6 +1,7 @@
 package arbiter_test
 
 import (
+	"strconv"
 	"sync"
 	"testing"
 
@@ -35,6 +36,12 @@ func TestP2SessionsAtTheSameTime(t *testing.T) {
 				declare(t, s, letters(n), 0, api.OK)
 				refuse(t, s, "(= x 1)", 3, api.ErrName)
 				tidy(t, s, "(<  "+letters(n)+" 1)", "(< "+letters(n)+" 1)")
+				lay(t, s, "(< 1 "+letters(n)+")")
+				push(t, s, api.OK)
+				lay(t, s, "(le 1 2 "+strconv.Itoa(n)+")", "(= 2 3)")
+				count(t, s, 3, 1)
+				pop(t, s, api.OK)
+				count(t, s, 1, 0)
 			}
 		})
 	}
@@ -61,11 +68,7 @@ func TestP3NewSession(t *testing.T) {
 		refuse(t, s, "(= "+string(c)+" 0)", 3, api.ErrName)
 		refuse(t, s, "(= ("+string(c)+" 0) 0)", 4, api.ErrName)
 	}
-	if formulas, frames := s.Count(); formulas != 0 || frames != 0 {
-		t.Errorf("Count of a new session = %d, %d", formulas, frames)
-	}
-	if errno := s.Pop(); errno != api.ErrNone {
-		t.Errorf("Pop of a new session = %d", errno)
-	}
+	count(t, s, 0, 0)
+	pop(t, s, api.ErrNone)
 	tidy(t, s, "true", "true")
 }

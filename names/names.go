@@ -2,6 +2,7 @@
 package names
 
 import (
+	"slices"
 	"strings"
 
 	"arbiter/api"
@@ -63,4 +64,14 @@ func (t *Table) Declare(name string, arity int) api.Errno {
 	// A copy, as the name may be a small piece of the caller's long text.
 	t.functions = append(t.functions, Function{strings.Clone(name), arity})
 	return api.OK
+}
+
+// Count tells how many names are declared, for a later Cut.
+func (t *Table) Count() int {
+	return len(t.functions)
+}
+
+// Cut leaves the names that were declared first, as many as count says.
+func (t *Table) Cut(count int) {
+	t.functions = slices.Delete(t.functions, count, len(t.functions))
 }

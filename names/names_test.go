@@ -57,3 +57,27 @@ func TestRefusedNamesAreNotKept(t *testing.T) {
 		}
 	}
 }
+
+func TestCut(t *testing.T) {
+	var table Table
+	for _, name := range []string{"a", "b", "c"} {
+		table.Declare(name, 1)
+	}
+	table.Cut(3)
+	if table.Count() != 3 {
+		t.Errorf("Count = %d", table.Count())
+	}
+	table.Cut(1)
+	if _, ok := table.Find("a"); !ok || table.Count() != 1 {
+		t.Errorf("Count = %d, and a is there: %t", table.Count(), ok)
+	}
+	if _, ok := table.Find("b"); ok {
+		t.Error("b is there still")
+	}
+	if errno := table.Declare("b", 2); errno != api.OK {
+		t.Errorf("Declare = %d", errno)
+	}
+	if f, _ := table.Find("b"); f != (Function{"b", 2}) {
+		t.Errorf("b is %v", f)
+	}
+}
