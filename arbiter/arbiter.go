@@ -7,7 +7,10 @@ import (
 	"arbiter/api"
 	"arbiter/names"
 	"arbiter/pool"
+	"arbiter/search"
 	"arbiter/syntax"
+	"arbiter/theory"
+	"arbiter/worlds"
 )
 
 // Session is names, formulas, frames.
@@ -89,7 +92,11 @@ func (s *Session) Count() (int, int) {
 }
 
 // Check tells whether all formulas can be true together (P8).
-func (s *Session) Check() bool { return false }
+func (s *Session) Check() bool {
+	terms, atoms := s.pool.Terms(), s.pool.Atoms()
+	allowed := worlds.OfAll(s.formulas, len(atoms))
+	return search.Run(theory.New(terms, atoms), len(atoms), allowed)
+}
 
 // Value is what a term is in the model (P9).
 func (s *Session) Value(term string) (int, int, api.Errno) { return 0, 0, api.OK }

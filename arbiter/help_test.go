@@ -1,6 +1,7 @@
 package arbiter_test
 
 import (
+	"strings"
 	"testing"
 
 	"arbiter/api"
@@ -73,6 +74,25 @@ func count(t testing.TB, s *arbiter.Session, formulas, frames int) {
 	t.Helper()
 	if a, b := s.Count(); a != formulas || b != frames {
 		t.Errorf("Count() = %d, %d, want %d, %d", a, b, formulas, frames)
+	}
+}
+
+func check(t testing.TB, s *arbiter.Session, want bool) {
+	t.Helper()
+	if got := s.Check(); got != want {
+		t.Errorf("Check() = %t", got)
+	}
+}
+
+// checkRows has rows of formulas with ; between: a session for each.
+func checkRows(t *testing.T, rows map[string]bool) {
+	t.Helper()
+	for row, want := range rows {
+		s := session(t)
+		lay(t, s, strings.Split(row, ";")...)
+		if got := s.Check(); got != want {
+			t.Errorf("Check() of %s = %t", row, got)
+		}
 	}
 }
 

@@ -40,12 +40,27 @@ func TestP2SessionsAtTheSameTime(t *testing.T) {
 				push(t, s, api.OK)
 				lay(t, s, "(le 1 2 "+strconv.Itoa(n)+")", "(= 2 3)")
 				count(t, s, 3, 1)
+				check(t, s, false)
 				pop(t, s, api.OK)
 				count(t, s, 1, 0)
+				check(t, s, true)
 			}
 		})
 	}
 	all.Wait()
+}
+
+// P2: what one session's formulas say, another one's do not.
+func TestP2ChecksAreApart(t *testing.T) {
+	one, other := session(t), session(t)
+	lay(t, one, "(< x y)")
+	lay(t, other, "(< y x)")
+	check(t, one, true)
+	check(t, other, true)
+	lay(t, one, "(< y x)")
+	check(t, other, true)
+	check(t, one, false)
+	check(t, other, true)
 }
 
 // P2: an answer hangs on no earlier Tidy.

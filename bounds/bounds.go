@@ -1,10 +1,14 @@
 // Package bounds compares whole numbers of all kinds in one way.
 package bounds
 
+// Signed is every kind of whole number that can be negative.
+type Signed interface {
+	~int | ~int8 | ~int16 | ~int32 | ~int64
+}
+
 // Integer is every kind of whole number, bytes too.
 type Integer interface {
-	~int | ~int8 | ~int16 | ~int32 | ~int64 |
-		~uint | ~uint8 | ~uint16 | ~uint32 | ~uint64
+	Signed | ~uint | ~uint8 | ~uint16 | ~uint32 | ~uint64
 }
 
 // Within tells whether n is one of low to high, both ends included.
@@ -20,4 +24,18 @@ func AllWithin(text string, low, high byte) bool {
 		}
 	}
 	return true
+}
+
+// Holds tells whether two numbers are as the relation of an atom says. Only a
+// le looks at by.
+func Holds[N Signed](relation string, one, other, by N) bool {
+	switch relation {
+	case "=":
+		return one == other
+	case "<":
+		return one < other
+	case "<=":
+		return one <= other
+	}
+	return one <= other+by
 }

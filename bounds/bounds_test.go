@@ -35,3 +35,23 @@ func TestAllWithin(t *testing.T) {
 		}
 	}
 }
+
+func TestHolds(t *testing.T) {
+	for _, c := range []struct {
+		relation       string
+		one, other, by int
+		want           bool
+	}{
+		{"=", 2, 2, 0, true}, {"=", 1, 2, 0, false}, {"=", 2, 1, 0, false},
+		{"<", 2, 2, 0, false}, {"<", 1, 2, 0, true}, {"<", 2, 1, 0, false},
+		{"<=", 2, 2, 0, true}, {"<=", 1, 2, 0, true}, {"<=", 2, 1, 0, false},
+		{"le", 2, 2, 0, true}, {"le", 3, 2, 0, false}, {"le", 5, 2, 3, true}, {"le", 6, 2, 3, false}, {"le", -1, 2, -3, true}, {"le", 0, 2, -3, false},
+	} {
+		if got := Holds(c.relation, c.one, c.other, c.by); got != c.want {
+			t.Errorf("Holds(%q, %d, %d, %d) = %t", c.relation, c.one, c.other, c.by, got)
+		}
+		if got := Holds(c.relation, int8(c.one), int8(c.other), int8(c.by)); got != c.want {
+			t.Errorf("Holds(%q, %d, %d, %d) of small numbers = %t", c.relation, c.one, c.other, c.by, got)
+		}
+	}
+}

@@ -3,6 +3,8 @@
 package pool
 
 import (
+	"slices"
+
 	"arbiter/api"
 	"arbiter/names"
 	"arbiter/syntax"
@@ -46,6 +48,16 @@ type Size struct {
 // Size tells how much there is, for a later Cut.
 func (p *Pool) Size() Size {
 	return Size{len(p.terms.things), len(p.atoms.things)}
+}
+
+// Terms gives all terms, each at its number. A term comes behind its arguments.
+func (p *Pool) Terms() []Term {
+	return slices.Clone(p.terms.things)
+}
+
+// Atoms gives all atoms, each at its number.
+func (p *Pool) Atoms() []Atom {
+	return slices.Clone(p.atoms.things)
 }
 
 // Cut takes back what came since the pool had that size.

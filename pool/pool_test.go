@@ -56,12 +56,16 @@ func TestTermsAndAtomsOnce(t *testing.T) {
 	take(t, &p, "(and (= (h x -7 (f x)) y) (le (f x) x -7))")
 	take(t, &p, "(or (<  (g  x y)  (f x)) (= (h x -7 ( f x)) y))")
 	wantTerms := []Term{function("x"), {Value: -7}, function("f", 0), function("h", 0, 1, 2), function("y"), function("g", 0, 4)}
-	if !slices.Equal(p.terms.things, wantTerms) {
-		t.Errorf("terms: %+v", p.terms.things)
+	if !slices.Equal(p.Terms(), wantTerms) {
+		t.Errorf("terms: %+v", p.Terms())
 	}
 	wantAtoms := []Atom{{"=", [2]int{3, 4}, 0}, {"le", [2]int{2, 0}, -7}, {"<", [2]int{5, 2}, 0}}
-	if !slices.Equal(p.atoms.things, wantAtoms) {
-		t.Errorf("atoms: %+v", p.atoms.things)
+	if !slices.Equal(p.Atoms(), wantAtoms) {
+		t.Errorf("atoms: %+v", p.Atoms())
+	}
+	p.Terms()[0], p.Atoms()[0] = Term{}, Atom{}
+	if !slices.Equal(p.Terms(), wantTerms) || !slices.Equal(p.Atoms(), wantAtoms) {
+		t.Error("who was given the terms and the atoms can change them")
 	}
 }
 
