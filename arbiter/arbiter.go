@@ -5,6 +5,8 @@ import (
 	"slices"
 
 	"arbiter/api"
+	"arbiter/blame"
+	"arbiter/model"
 	"arbiter/names"
 	"arbiter/pool"
 	"arbiter/search"
@@ -19,6 +21,7 @@ type Session struct {
 	pool     pool.Pool // the terms and the atoms of the formulas
 	formulas []pool.Formula
 	frames   []frame // those above the first one
+	found    finding // none, if something was changed since the last Check
 }
 
 // frame is how much there was when it began: all that has come since goes with
@@ -29,12 +32,30 @@ type frame struct {
 	formulas int
 }
 
+// finding is what Check has found.
+type finding struct {
+	verdict verdict
+	model   model.Model // of formulas that can be true
+}
+
+type verdict int
+
+const (
+	unasked verdict = iota
+	possible
+	impossible
+)
+
 // New makes a session (P3).
 func New() *Session { return &Session{} }
 
 // Declare makes a name known (P4).
 func (s *Session) Declare(name string, arity int) api.Errno {
-	return s.names.Declare(name, arity)
+	errno := s.names.Declare(name, arity)
+	if errno == api.OK {
+		s.forget()
+	}
+	return errno
 }
 
 // Tidy writes a formula in its one form (P5).
@@ -60,6 +81,7 @@ func (s *Session) Assert(formula string) (int, api.Errno) {
 		return 0, errno
 	}
 	s.formulas = append(s.formulas, taken)
+	s.forget()
 	return 0, api.OK
 }
 
@@ -69,6 +91,7 @@ func (s *Session) Push() api.Errno {
 		return api.ErrFull
 	}
 	s.frames = append(s.frames, frame{s.names.Count(), s.pool.Size(), len(s.formulas)})
+	s.forget()
 	return api.OK
 }
 
@@ -83,6 +106,7 @@ func (s *Session) Pop() api.Errno {
 	s.names.Cut(before.names)
 	s.pool.Cut(before.pool)
 	s.formulas = slices.Delete(s.formulas, before.formulas, len(s.formulas))
+	s.forget()
 	return api.OK
 }
 
@@ -93,13 +117,52 @@ func (s *Session) Count() (int, int) {
 
 // Check tells whether all formulas can be true together (P8).
 func (s *Session) Check() bool {
+	answer := s.decide(s.formulas)
+	if answer.Stands {
+		s.found = finding{possible, model.New(s.pool.Terms(), answer.Model)}
+	} else {
+		s.found = finding{verdict: impossible}
+	}
+	return answer.Stands
+}
+
+// decide finds whether formulas of the session can be true together, and how.
+func (s *Session) decide(formulas []pool.Formula) search.Answer {
 	terms, atoms := s.pool.Terms(), s.pool.Atoms()
-	allowed := worlds.OfAll(s.formulas, len(atoms))
+	allowed := worlds.OfAll(formulas, len(atoms))
 	return search.Run(theory.New(terms, atoms), len(atoms), allowed)
 }
 
+// forget drops what Check has found, as it is of other formulas or names.
+func (s *Session) forget() {
+	s.found = finding{}
+}
+
 // Value is what a term is in the model (P9).
-func (s *Session) Value(term string) (int, int, api.Errno) { return 0, 0, api.OK }
+func (s *Session) Value(term string) (int, int, api.Errno) {
+	if s.found.verdict != possible {
+		return 0, 0, api.ErrAnswer
+	}
+	read, place, errno := syntax.Term(term, &s.names)
+	if errno != api.OK {
+		return 0, place, errno
+	}
+	return s.found.model.Value(read), 0, api.OK
+}
 
 // Core tells formulas that cannot all be true (P10).
-func (s *Session) Core() ([]int, api.Errno) { return nil, api.OK }
+func (s *Session) Core() ([]int, api.Errno) {
+	if s.found.verdict != impossible {
+		return nil, api.ErrAnswer
+	}
+	return blame.Few(len(s.formulas), s.cannotBe), api.OK
+}
+
+// cannotBe tells whether the formulas of those numbers contradict each other.
+func (s *Session) cannotBe(numbers []int) bool {
+	var some []pool.Formula
+	for _, n := range numbers {
+		some = append(some, s.formulas[n])
+	}
+	return !s.decide(some).Stands
+}

@@ -84,6 +84,40 @@ func check(t testing.TB, s *arbiter.Session, want bool) {
 	}
 }
 
+// value asks for a term that has one.
+func value(t testing.TB, s *arbiter.Session, term string) int {
+	t.Helper()
+	n, place, errno := s.Value(term)
+	if place != 0 || errno != api.OK {
+		t.Errorf("Value(%q) = %d, %d, %d", term, n, place, errno)
+	}
+	return n
+}
+
+func noValue(t testing.TB, s *arbiter.Session, term string, place int, errno api.Errno) {
+	t.Helper()
+	if n, p, e := s.Value(term); n != 0 || p != place || e != errno {
+		t.Errorf("Value(%q) = %d, place %d, error %d, want place %d, error %d", term, n, p, e, place, errno)
+	}
+}
+
+// core asks for formulas to blame where there are some.
+func core(t testing.TB, s *arbiter.Session) []int {
+	t.Helper()
+	numbers, errno := s.Core()
+	if errno != api.OK {
+		t.Errorf("Core() = %v, %d", numbers, errno)
+	}
+	return numbers
+}
+
+func noCore(t testing.TB, s *arbiter.Session) {
+	t.Helper()
+	if numbers, errno := s.Core(); len(numbers) != 0 || errno != api.ErrAnswer {
+		t.Errorf("Core() = %v, %d, want error %d", numbers, errno, api.ErrAnswer)
+	}
+}
+
 // checkRows has rows of formulas with ; between: a session for each.
 func checkRows(t *testing.T, rows map[string]bool) {
 	t.Helper()

@@ -44,10 +44,15 @@ type known map[string]int
 
 // read answers as Tidy should in a session that has these names.
 func (k known) read(text string) (string, int, api.Errno) {
+	return k.readAs(formula, text)
+}
+
+// readAs reads a text as a whole of that sort.
+func (k known) readAs(whole want, text string) (string, int, api.Errno) {
 	if len(text) > 600 {
 		return "", 0, api.ErrLong
 	}
-	stack := []want{formula}
+	stack := []want{whole}
 	depth := 0
 	var seen []string
 	for _, span := range tokenPattern.FindAllStringIndex(text, -1) {

@@ -164,19 +164,26 @@ func TestP1ErrorsChangeNothing(t *testing.T) {
 	tidy(t, s, "(= (f ns) na)", "(= (f ns) na)")
 }
 
-// P1: no call panics on a new session, whatever it is given.
+// P1: no call panics, whatever it is given: on a new session, where the
+// formulas can be true, and where they cannot.
 func TestP1EveryCallEnds(t *testing.T) {
-	for _, text := range []string{"", "\x00", "\xff\xfe", "(", ")", strings.Repeat("(", 1000000), strings.Repeat("9", 1000000), strings.Repeat("a", 1000000)} {
-		s := arbiter.New()
-		s.Declare(text, math.MinInt)
-		s.Tidy(text)
-		s.Assert(text)
-		s.Push()
-		s.Pop()
-		s.Pop()
-		s.Count()
-		s.Check()
-		s.Value(text)
-		s.Core()
+	for _, text := range []string{"", "\x00", "\xff\xfe", "(", ")", "-", "x", "(f x)", strings.Repeat("(f ", 31), strings.Repeat("(", 600), strings.Repeat("(", 1000000), strings.Repeat("9", 1000000), strings.Repeat("a", 1000000)} {
+		possible, impossible := session(t), session(t)
+		lay(t, possible, "(< x (f x))")
+		lay(t, impossible, "(< x x)")
+		for _, s := range []*arbiter.Session{arbiter.New(), possible, impossible} {
+			s.Value(text)
+			s.Core()
+			s.Declare(text, math.MinInt)
+			s.Tidy(text)
+			s.Assert(text)
+			s.Push()
+			s.Pop()
+			s.Pop()
+			s.Count()
+			s.Check()
+			s.Value(text)
+			s.Core()
+		}
 	}
 }

@@ -1,6 +1,7 @@
 package arbiter_test
 
 import (
+	"slices"
 	"strconv"
 	"sync"
 	"testing"
@@ -41,9 +42,15 @@ func TestP2SessionsAtTheSameTime(t *testing.T) {
 				lay(t, s, "(le 1 2 "+strconv.Itoa(n)+")", "(= 2 3)")
 				count(t, s, 3, 1)
 				check(t, s, false)
+				if got := core(t, s); len(got) != 1 || got[0] != 2 {
+					t.Errorf("Core() = %v", got)
+				}
 				pop(t, s, api.OK)
 				count(t, s, 1, 0)
 				check(t, s, true)
+				if got := value(t, s, letters(n)); got <= 1 {
+					t.Errorf("Value(%s) = %d", letters(n), got)
+				}
 			}
 		})
 	}
@@ -61,6 +68,27 @@ func TestP2ChecksAreApart(t *testing.T) {
 	check(t, other, true)
 	check(t, one, false)
 	check(t, other, true)
+}
+
+// P2: what was found in one session, another one does not tell.
+func TestP2FindingsAreApart(t *testing.T) {
+	one, other, third := session(t), session(t), session(t)
+	lay(t, one, "(= x 1)")
+	lay(t, other, "(= x 2)")
+	lay(t, third, "true", "(< x x)")
+	check(t, one, true)
+	noValue(t, other, "x", 0, api.ErrAnswer)
+	noCore(t, third)
+	check(t, other, true)
+	check(t, third, false)
+	lay(t, other, "(< y x)")
+	if got := value(t, one, "x"); got != 1 {
+		t.Errorf("Value(x) = %d", got)
+	}
+	noValue(t, other, "x", 0, api.ErrAnswer)
+	if got := core(t, third); !slices.Equal(got, []int{1}) {
+		t.Errorf("Core() = %v", got)
+	}
 }
 
 // P2: an answer hangs on no earlier Tidy.

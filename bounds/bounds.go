@@ -26,6 +26,11 @@ func AllWithin(text string, low, high byte) bool {
 	return true
 }
 
+// Size is how far a number is from 0.
+func Size[N Signed](n N) N {
+	return max(n, -n)
+}
+
 // Holds tells whether two numbers are as the relation of an atom says. Only a
 // le looks at by.
 func Holds[N Signed](relation string, one, other, by N) bool {

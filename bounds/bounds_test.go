@@ -36,6 +36,17 @@ func TestAllWithin(t *testing.T) {
 	}
 }
 
+func TestSize(t *testing.T) {
+	for n, want := range map[int]int{0: 0, 1: 1, -1: 1, 1000: 1000, -1000: 1000} {
+		if got := Size(n); got != want {
+			t.Errorf("Size(%d) = %d", n, got)
+		}
+	}
+	if Size(int8(-127)) != 127 {
+		t.Error("small numbers")
+	}
+}
+
 func TestHolds(t *testing.T) {
 	for _, c := range []struct {
 		relation       string

@@ -18,6 +18,11 @@ type Term struct {
 	Value     int
 }
 
+// IsNumber tells whether the term is a number.
+func (t Term) IsNumber() bool {
+	return t.Function.Name == ""
+}
+
 // Atom is two terms, by their numbers, and how they are compared. Only a le has
 // a bound.
 type Atom struct {

@@ -124,3 +124,15 @@ func TestTooMuch(t *testing.T) {
 		t.Errorf("Size = %+v", p.Size())
 	}
 }
+
+func TestIsNumber(t *testing.T) {
+	var p Pool
+	take(t, &p, "(and (= x 0) (= (f 0) -3))")
+	var got []bool
+	for _, term := range p.Terms() {
+		got = append(got, term.IsNumber())
+	}
+	if !slices.Equal(got, []bool{false, true, false, true}) {
+		t.Errorf("of x, 0, (f 0), -3: %v", got)
+	}
+}

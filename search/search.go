@@ -26,10 +26,19 @@ type step struct {
 	blame    marks.Set // if turned: what the other answer could not stand beside
 }
 
-// Run tells whether the theory lets one of the allowed worlds stand.
-func Run(theory Theory, atoms int, allowed worlds.Set) bool {
+// Answer is what a search has found.
+type Answer struct {
+	Stands bool  // the theory lets one of the allowed worlds stand
+	Model  []int // the numbers of the terms in that world, if the theory can tell
+}
+
+// Run looks for an allowed world that the theory lets stand.
+func Run(theory Theory, atoms int, allowed worlds.Set) Answer {
 	s := &search{theory: theory, atoms: atoms, left: []worlds.Set{allowed}}
-	return !allowed.Empty() && s.run()
+	if allowed.Empty() || !s.run() {
+		return Answer{}
+	}
+	return Answer{Stands: true, Model: s.model()}
 }
 
 func (s *search) run() bool {
@@ -144,6 +153,14 @@ func (s *search) blame() marks.Set {
 		all = all.With(marks.Of(n))
 	}
 	return all
+}
+
+// model is the numbers of the terms, unless the theory knows none.
+func (s *search) model() []int {
+	if modeler, ok := s.theory.(Modeler); ok {
+		return modeler.Model()
+	}
+	return nil
 }
 
 // areAtoms tells whether no step is about a split. The last one tells, as the

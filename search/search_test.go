@@ -141,7 +141,7 @@ func TestRunAgainstAllAnswers(t *testing.T) {
 			"splitting and explaining": both{explaining{about}, splitting{about, atoms, questions}},
 		} {
 			about.assumed = nil
-			if got := Run(theory, atoms, slices.Clone(allowed)); got != want {
+			if got := Run(theory, atoms, slices.Clone(allowed)).Stands; got != want {
 				t.Fatalf("%s, %d atoms, %d questions: Run = %t: %v", name, atoms, questions, got, about.rules)
 			}
 			if want && !about.allow(number(about.assumed)) {
@@ -177,16 +177,50 @@ func TestRunOfAPlainTheory(t *testing.T) {
 		}
 		for _, theory := range []Theory{about, explaining{about}} {
 			about.assumed = nil
-			if got := Run(theory, atoms, allowed); got != want {
+			if got := Run(theory, atoms, allowed).Stands; got != want {
 				t.Fatalf("Run = %t: %v", got, about.rules)
 			}
 		}
 	}
 }
 
+// modeling has a model, which tells what was assumed.
+type modeling struct{ *rules }
+
+func (m modeling) Model() []int {
+	var questions []int
+	for _, one := range m.assumed {
+		questions = append(questions, one.question)
+	}
+	return questions
+}
+
+// A model is asked for where a world stands, if the theory has any.
+func TestModel(t *testing.T) {
+	for _, c := range []struct {
+		rules   [][]rule
+		allowed worlds.Set
+		want    Answer
+	}{
+		{nil, worlds.Where(2, 1, true), Answer{true, []int{1, 0}}},
+		{[][]rule{{{1, true}}}, worlds.Where(2, 1, true), Answer{}},
+		{nil, worlds.None(2), Answer{}},
+	} {
+		about := &rules{t: t, rules: c.rules}
+		got := Run(modeling{about}, 2, c.allowed)
+		if got.Stands != c.want.Stands || !slices.Equal(got.Model, c.want.Model) {
+			t.Errorf("Run = %v, want %v", got, c.want)
+		}
+		about.assumed = nil
+		if got := Run(about, 2, c.allowed); got.Stands != c.want.Stands || got.Model != nil {
+			t.Errorf("without a model: Run = %v", got)
+		}
+	}
+}
+
 func TestRunOfNothing(t *testing.T) {
 	about := &rules{t: t}
-	if !Run(about, 0, worlds.All(0)) || Run(about, 0, worlds.None(0)) || Run(about, 3, worlds.None(3)) {
+	if !Run(about, 0, worlds.All(0)).Stands || Run(about, 0, worlds.None(0)).Stands || Run(about, 3, worlds.None(3)).Stands {
 		t.Error("Run without a question")
 	}
 	if about.asked != 0 {
@@ -198,7 +232,7 @@ func TestRunOfNothing(t *testing.T) {
 func TestForcedComesFirst(t *testing.T) {
 	allowed := worlds.Where(3, 2, true).And(worlds.Where(3, 0, false).Or(worlds.Where(3, 2, false)))
 	about := &rules{t: t, rules: [][]rule{{{0, true}, {1, true}}}}
-	if !Run(about, 3, allowed) || !slices.Equal(about.assumed, []rule{{0, false}, {2, true}, {1, true}}) {
+	if !Run(about, 3, allowed).Stands || !slices.Equal(about.assumed, []rule{{0, false}, {2, true}, {1, true}}) {
 		t.Errorf("assumed: %v", about.assumed)
 	}
 	if about.asked != 3 {
@@ -212,7 +246,7 @@ func TestExplanationsAreUsed(t *testing.T) {
 	atoms, questions := 16, 28
 	about := &rules{t: t, rules: [][]rule{{{0, true}}, {{0, false}, {16, true}, {1, true}}, {{0, false}, {16, false}, {1, true}}, {{1, false}, {16, true}}, {{1, false}, {16, false}}}}
 	theory := both{explaining{about}, splitting{about, atoms, questions}}
-	if Run(theory, atoms, worlds.All(atoms)) {
+	if Run(theory, atoms, worlds.All(atoms)).Stands {
 		t.Error("Run = true")
 	}
 	if about.asked > 100 {
@@ -228,7 +262,7 @@ func TestBackGoesNoFurther(t *testing.T) {
 	for n := range 15 {
 		about.rules = append(about.rules, []rule{{n, true}, {n + 1, true}})
 	}
-	if !Run(explaining{about}, atoms, worlds.All(atoms)) {
+	if !Run(explaining{about}, atoms, worlds.All(atoms)).Stands {
 		t.Error("Run = false")
 	}
 	if about.asked > 2*atoms {

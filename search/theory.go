@@ -19,6 +19,13 @@ type Explainer interface {
 	Explain() marks.Set
 }
 
+// Modeler is a theory that can give a model.
+type Modeler interface {
+	// Model gives, where all that is assumed stands and nothing more is asked, a
+	// number for each term, with which all of it is true.
+	Model() []int
+}
+
 // Splitter is a theory that cannot always tell from the answers about atoms
 // whether they can stand together.
 type Splitter interface {

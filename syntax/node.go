@@ -1,5 +1,5 @@
-// Package syntax reads formulas, tells what is wrong with them and where, and
-// writes them in their one form.
+// Package syntax reads formulas and terms, tells what is wrong with them and
+// where, and writes them in their one form.
 package syntax
 
 import (

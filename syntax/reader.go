@@ -60,11 +60,20 @@ type reader struct {
 // Formula reads a text as a formula. With an error the node is empty and the
 // number is the error's place (P5).
 func Formula(text string, known *names.Table) (Node, int, api.Errno) {
+	return read(text, known, (*reader).formula)
+}
+
+// Term reads a text as a term, with the same errors (P9).
+func Term(text string, known *names.Table) (Node, int, api.Errno) {
+	return read(text, known, (*reader).term)
+}
+
+func read(text string, known *names.Table, whole func(*reader) (Node, bool)) (Node, int, api.Errno) {
 	if len(text) > api.MaxText {
 		return Node{}, 0, api.ErrLong
 	}
 	r := reader{tokens: token.Split(text), names: known}
-	node, ok := r.formula()
+	node, ok := whole(&r)
 	if !ok || !r.end() {
 		return Node{}, r.place, r.errno
 	}

@@ -1,6 +1,7 @@
 package syntax
 
 import (
+	"reflect"
 	"strings"
 	"testing"
 
@@ -54,11 +55,47 @@ func TestKinds(t *testing.T) {
 	}
 }
 
+func TestTerm(t *testing.T) {
+	for text, want := range map[string]Node{
+		"x":        {Kind: Name, Word: "x"},
+		" -12 ":    {Kind: Number, Value: -12},
+		"( f\tx )": {Kind: Name, Word: "f", Parts: []Node{{Kind: Name, Word: "x"}}},
+		"(h 1 (f x) x)": {Kind: Name, Word: "h", Parts: []Node{
+			{Kind: Number, Value: 1}, {Kind: Name, Word: "f", Parts: []Node{{Kind: Name, Word: "x"}}}, {Kind: Name, Word: "x"},
+		}},
+	} {
+		if got, place, errno := Term(text, table()); !reflect.DeepEqual(got, want) || place != 0 || errno != api.OK {
+			t.Errorf("Term(%q) = %+v, %d, %d", text, got, place, errno)
+		}
+	}
+}
+
+// What is a formula is no term, and the other way round.
+func TestTermsAreNoFormulas(t *testing.T) {
+	for text, errnos := range map[string][2]api.Errno{
+		"x": {api.ErrForm, api.OK}, "1": {api.ErrForm, api.OK}, "(f x)": {api.ErrForm, api.OK},
+		"true": {api.OK, api.ErrForm}, "(and)": {api.OK, api.ErrForm}, "(= x 1)": {api.OK, api.ErrForm},
+		"": {api.ErrForm, api.ErrForm}, "y": {api.ErrForm, api.ErrName}, "(f)": {api.ErrForm, api.ErrArity}, "(= (f) x)": {api.ErrArity, api.ErrForm},
+	} {
+		_, _, asFormula := Formula(text, table())
+		_, _, asTerm := Term(text, table())
+		if got := [2]api.Errno{asFormula, asTerm}; got != errnos {
+			t.Errorf("%q: %v, want %v", text, got, errnos)
+		}
+	}
+}
+
 func TestEmptyNodeBesideAnError(t *testing.T) {
 	for _, text := range []string{"", "x", "(and true", "(= x x) true", "(= (f x x) x)", strings.Repeat(" ", 601)} {
 		node, _, errno := Formula(text, table())
 		if errno == api.OK || node.Kind != 0 || node.Word != "" || node.Value != 0 || node.Parts != nil {
 			t.Errorf("Formula(%q) = %+v, %d", text, node, errno)
+		}
+	}
+	for _, text := range []string{"", "true", "(f x", "x x", "(f x x)", "(h x x y)", "1001", strings.Repeat(" ", 601)} {
+		node, _, errno := Term(text, table())
+		if errno == api.OK || !reflect.DeepEqual(node, Node{}) {
+			t.Errorf("Term(%q) = %+v, %d", text, node, errno)
 		}
 	}
 }

@@ -27,6 +27,16 @@ func (t *Theory) Split() (int, bool) {
 	return 0, false
 }
 
+// Model is the greatest numbers (see search.Modeler): where nothing more is
+// asked, they fit.
+func (t *Theory) Model() []int {
+	numbers := make([]int, len(t.terms))
+	for n := range numbers {
+		numbers[n] = t.greatest(n)
+	}
+	return numbers
+}
+
 // greatest is the greatest number that a term can be. All terms together can
 // be their greatest ones, as far as bounds go.
 func (t *Theory) greatest(term int) int {

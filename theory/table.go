@@ -2,17 +2,13 @@ package theory
 
 import (
 	"arbiter/api"
+	"arbiter/bounds"
 	"arbiter/marks"
+	"arbiter/pool"
 )
 
 // nodes is one for each term, and one for the number 0.
 const nodes = api.MaxTerms + 1
-
-// far is how far two nodes can be from each other at most. It rules nothing
-// out: if some numbers fit, and two neighbours among them are more than
-// MaxNumber and 1 apart, then all above can come down by the rest, as no atom
-// can tell the difference.
-const far = (nodes - 1) * (api.MaxNumber + 1)
 
 // table is what is known of all nodes: row s, column t is by how much node s is
 // above node t at most. It is always closed: no way round by a third node says
@@ -30,7 +26,22 @@ type bound struct {
 	why marks.Set
 }
 
-func newTable(size int) table {
+// reach is how far two nodes can be from each other at most. It rules nothing
+// out: if some numbers fit, and two neighbours among them are apart by more than
+// the greatest number that is written and 1, then all above can come down by the
+// rest, as no atom can tell the difference. It keeps a model's numbers small.
+func reach(terms []pool.Term, atoms []pool.Atom) int {
+	greatest := 0
+	for _, term := range terms {
+		greatest = max(greatest, bounds.Size(term.Value))
+	}
+	for _, atom := range atoms {
+		greatest = max(greatest, bounds.Size(atom.Bound))
+	}
+	return len(terms) * (greatest + 1)
+}
+
+func newTable(size, far int) table {
 	t := table{size: size}
 	for i := range size {
 		for j := range size {

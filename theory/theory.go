@@ -27,20 +27,16 @@ type answer struct {
 // New makes the theory of those terms and atoms, in which nothing is assumed.
 func New(terms []pool.Term, atoms []pool.Atom) *Theory {
 	t := &Theory{terms: terms, atoms: atoms, twins: twins(terms)}
-	start := newTable(len(terms) + 1)
+	start := newTable(len(terms)+1, reach(terms, atoms))
 	zero := len(terms)
 	for n, term := range terms {
-		if isNumber(term) {
+		if term.IsNumber() {
 			start.limit(n, zero, bound{by: term.Value})
 			start.limit(zero, n, bound{by: -term.Value})
 		}
 	}
 	t.tables = []table{start}
 	return t
-}
-
-func isNumber(term pool.Term) bool {
-	return term.Function.Name == ""
 }
 
 func twins(terms []pool.Term) [][2]int {

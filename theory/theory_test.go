@@ -19,6 +19,7 @@ var (
 	_ search.Theory    = (*Theory)(nil)
 	_ search.Explainer = (*Theory)(nil)
 	_ search.Splitter  = (*Theory)(nil)
+	_ search.Modeler   = (*Theory)(nil)
 )
 
 // about makes the theory of atoms, which are numbered as they come.
@@ -245,12 +246,52 @@ func TestSplit(t *testing.T) {
 		if ok && !fit(th) {
 			t.Fatalf("the numbers are wrong: %v", th.assumed)
 		}
+		for n, number := range th.Model() {
+			if number != th.greatest(n) {
+				t.Fatalf("the model has %d for %v", number, th.terms[n])
+			}
+		}
 		if ok {
 			stood++
 		}
 	}
 	if asked < 1000 || stood < 1000 {
 		t.Errorf("asked %d times, stood %d times", asked, stood)
+	}
+}
+
+// A model goes no further than the numbers that are written need.
+func TestReach(t *testing.T) {
+	for _, c := range []struct {
+		atoms []string
+		want  int
+	}{
+		{nil, 0},
+		{[]string{"(= x y)"}, 2},
+		{[]string{"(< x (f x))", "(= (f x) y)"}, 3},
+		{[]string{"(le x y -5)", "(le x y 4)"}, 2 * 6},
+		{[]string{"(le x -7 4)", "(< 3 y)"}, 4 * 8},
+		{[]string{"(le x 1000 1000)", "(le x -1000 -1000)"}, 3 * 1001},
+	} {
+		th := about(t, c.atoms...)
+		if got := reach(th.terms, th.atoms); got != c.want {
+			t.Errorf("reach of %q = %d, want %d", c.atoms, got, c.want)
+		}
+	}
+}
+
+// As far as a model may have to go, it can.
+func TestReachIsEnough(t *testing.T) {
+	for _, row := range [][]string{
+		{"(le w 5 5)", "(le x w 5)", "(le y x 5)", "(le z y 5)"},
+		{"(le 5 w 5)", "(le w x 5)", "(le x y 5)", "(le y z 5)"},
+		{"(<= w x)", "(<= x y)", "(<= y z)"},
+		{"(le w 1000 1000)", "(le x w 1000)", "(le -1000 y 1000)", "(le y z 1000)"},
+	} {
+		th := about(t, row...)
+		if !assumeAll(th, make([]bool, len(row))) || !stands(th) {
+			t.Errorf("%q cannot all be false", row)
+		}
 	}
 }
 
@@ -282,7 +323,7 @@ func fit(th *Theory) bool {
 	}
 	results := map[pool.Term]int{}
 	for n, term := range th.terms {
-		if isNumber(term) && th.greatest(n) != term.Value {
+		if term.IsNumber() && th.greatest(n) != term.Value {
 			return false
 		}
 		for i := range term.Function.Arity {
